@@ -1,0 +1,1 @@
+"""Build files as texts: read with faults placed, and printed in one form."""

@@ -1,0 +1,48 @@
+"""The examples that the document gives for where, plain and the tree."""
+
+import unittest
+
+from buildtext.reading import read_text
+from tests.support import codes, plain_of, tree_numbers, where_of
+
+
+class Examples(unittest.TestCase):
+    def test_where(self):
+        for text, answer in [
+            ("x = 1", [3, 5]),
+            ("f(1,)", [3, 4]),
+            ("if x {y = 1;}", [5, 6]),
+            ("a = 1; a = 2;", [6, 7]),
+            ("f(a = 1, 2);", [7, 9]),
+            ("return;", [5, 0]),
+            ("x = not not y;", [3, 8]),
+            ('"\\x4"', [2, 0]),
+            ('x = "\\x4";', [2, 4]),
+        ]:
+            with self.subTest(text):
+                self.assertEqual(where_of(text), answer)
+
+    def test_plain(self):
+        self.assertEqual(
+            plain_of("def f(a,b=1){return a+(b*2)-(3-a);}"),
+            "def f(a, b = 1) {\n  return a + b * 2 - (3 - a);\n}\n",
+        )
+
+    def test_tree(self):
+        self.assertEqual(
+            tree_numbers(read_text(codes("-x.y;"))),
+            [10, 0, 1, 20, 0, 1, 43, 0, 1, 44, 1, 2, 3, 1, 1, 120, 67, 2, 1, 7, 3, 1, 121],
+        )
+
+    def test_texts_of_other_examples_can_be_read(self):
+        for text in [
+            "def f(x) { for y in g(x) { z = y; } return z; } h(f, z);",
+            "g = 1; def f(h) { return h; }",
+            "def f(x) { return x; } y = [f(f) for f in f];",
+        ]:
+            with self.subTest(text):
+                self.assertEqual(where_of(text), [0, 0])
+
+
+if __name__ == "__main__":
+    unittest.main()
