@@ -1,10 +1,15 @@
 """The calls: each takes texts as lists of bytes and gives back a list of whole numbers."""
 
+from buildtext.comparing import are_same
+from buildtext.numbering import numbers_of
 from buildtext.reading import read_text
 from buildtext.refusals import Refusal, RoomFault
 from buildtext.statement_form import plain_form
 
 MOST_PRINTED = 8192
+
+# What the refusal of a second text is less than that of a first one.
+LESS_FOR_SECOND = 20
 
 
 def where(text):
@@ -22,8 +27,29 @@ def plain(text):
         return [-fault.number]
 
 
-def form_with_room(tree):
-    form = plain_form(tree)
+def form_with_room(file_tree):
+    form = plain_form(file_tree)
     if len(form) > MOST_PRINTED:
         raise RoomFault()
     return form
+
+
+def tree(text):
+    try:
+        return [0] + numbers_of(read_text(text))
+    except Refusal as fault:
+        return [-fault.number]
+
+
+def same(a, b):
+    try:
+        first = read_text(a)
+    except Refusal as fault:
+        return [-fault.number]
+    try:
+        second = read_text(b)
+    except Refusal as fault:
+        return [-fault.number - LESS_FOR_SECOND]
+    if are_same(first, second):
+        return [1]
+    return [0]

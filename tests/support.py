@@ -1,8 +1,22 @@
-"""What the tests share: texts as lists of bytes, and the calls on ASCII texts."""
+"""What the tests share: texts as lists of bytes, the calls on ASCII texts, and trees made of their numbers."""
 
-from buildtext.desk import plain, where
+from buildtext.desk import plain, same, tree, where
 
 BRACKETS = {"(": ")", "[": "]", "{": "}"}
+
+# A text for each refusal of reading, without its sign.
+REFUSED = {
+    1: " " * 4097, 2: "!", 3: "x = 1", 4: "(" * 13, 5: "return;", 6: "a = 1; a = 2;", 7: "f(a = 1, 2);",
+}
+
+# A text whose tree has each kind of leaf and of node.
+EACH_KIND = """
+load "t" a, b;
+def f(c, d = 1) { if true { return; } else { e = false; } for g in none { return g; } }
+x = [a or b, a and b, not a, a == b, a != b, a < b, a <= b, a in b, a + b - c, a * b / c % d];
+{n: -a, m: f(a, n = b)[c].d};
+[y for y in x if y];
+"""
 
 
 def codes(text):
@@ -22,29 +36,71 @@ def plain_of(text):
     return bytes(answer[1:]).decode("ascii")
 
 
-def tree_numbers(tree):
-    """A tree as the numbers that the document tells for it."""
-    numbers = [tree.kind, tree.place]
-    if tree.kind < 10:
-        return numbers + [len(tree.data)] + tree.data
-    numbers.append(len(tree.parts))
-    for part in tree.parts:
-        numbers.extend(tree_numbers(part))
-    return numbers
+def numbers_of(text):
+    """The numbers of a text's tree, a text of bytes or an ASCII one."""
+    answer = tree(codes(text) if isinstance(text, str) else text)
+    assert answer[0] == 0, answer
+    return answer[1:]
 
 
-def shape(tree):
-    """A tree without its places."""
-    if tree.kind < 10:
-        return (tree.kind, tuple(tree.data))
-    return (tree.kind, tuple(shape(part) for part in tree.parts))
+def same_of(a, b):
+    """The one number that same answers."""
+    answer = same(codes(a), codes(b))
+    assert len(answer) == 1, answer
+    return answer[0]
 
 
-def leaves_nodes_depth(tree):
-    if tree.kind < 10:
+def grown(numbers):
+    """A tree made of all its numbers: kind, place, and its bytes or its parts."""
+    result, after = grown_at(numbers, 0)
+    assert after == len(numbers), "numbers stand behind the tree"
+    return result
+
+
+def grown_at(numbers, at):
+    kind, place, count = numbers[at:at + 3]
+    at += 3
+    if kind < 10:
+        assert at + count <= len(numbers)
+        return (kind, place, tuple(numbers[at:at + count])), at + count
+    parts = []
+    for time in range(count):
+        part, at = grown_at(numbers, at)
+        parts.append(part)
+    return (kind, place, tuple(parts)), at
+
+
+def shape(text):
+    """A text's tree without its places."""
+    return without_places(grown(numbers_of(text)))
+
+
+def without_places(entry):
+    kind, place, held = entry
+    if kind < 10:
+        return (kind, held)
+    return (kind, tuple(without_places(part) for part in held))
+
+
+def leaves_nodes_depth(text):
+    return measured(grown(numbers_of(text)))
+
+
+def measured(entry):
+    kind, place, held = entry
+    if kind < 10:
         return (1, 0, 1)
-    counted = [leaves_nodes_depth(part) for part in tree.parts]
+    counted = [measured(part) for part in held]
     leaves = sum(entry[0] for entry in counted)
     nodes = 1 + sum(entry[1] for entry in counted)
     depth = 1 + max((entry[2] for entry in counted), default=0)
     return (leaves, nodes, depth)
+
+
+def kinds_in(entry):
+    kind, place, held = entry
+    found = {kind}
+    if kind >= 10:
+        for part in held:
+            found |= kinds_in(part)
+    return found

@@ -1,9 +1,9 @@
-"""The examples that the document gives for where, plain and the tree."""
+"""The examples that the document gives for where, plain and tree."""
 
 import unittest
 
-from buildtext.reading import read_text
-from tests.support import codes, plain_of, tree_numbers, where_of
+from buildtext.desk import tree
+from tests.support import codes, plain_of, where_of
 
 
 class Examples(unittest.TestCase):
@@ -30,8 +30,8 @@ class Examples(unittest.TestCase):
 
     def test_tree(self):
         self.assertEqual(
-            tree_numbers(read_text(codes("-x.y;"))),
-            [10, 0, 1, 20, 0, 1, 43, 0, 1, 44, 1, 2, 3, 1, 1, 120, 67, 2, 1, 7, 3, 1, 121],
+            tree(codes("-x.y;")),
+            [0, 10, 0, 1, 20, 0, 1, 43, 0, 1, 44, 1, 2, 3, 1, 1, 120, 67, 2, 1, 7, 3, 1, 121],
         )
 
     def test_texts_of_other_examples_can_be_read(self):

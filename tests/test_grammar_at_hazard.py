@@ -1,4 +1,4 @@
-"""where and plain on files drawn from the document's grammar, whole and spoiled.
+"""where, plain, tree and same on files drawn from the document's grammar, whole and spoiled.
 
 The draws are the same each time: the source of chance is given its beginning.
 """
@@ -6,9 +6,7 @@ The draws are the same each time: the source of chance is given its beginning.
 import random
 import unittest
 
-from buildtext.desk import plain, where
-from buildtext.reading import read_text
-from buildtext.refusals import Refusal
+from buildtext.desk import plain, same, tree, where
 from tests.grammar import drawn, first_fault
 from tests.support import codes, shape
 
@@ -71,10 +69,19 @@ class AtHazard(unittest.TestCase):
         answer = where(codes(text))
         if number:
             self.assertEqual(answer, [number, places[token]], text)
-            self.assertEqual(plain(codes(text)), [-number])
+            self.check_refused(codes(text), number)
             return None
         self.assertIn(answer[0], (0, 5, 6, 7), text)
-        return text if answer[0] == 0 else None
+        if answer[0] != 0:
+            self.check_refused(codes(text), answer[0])
+            return None
+        return text
+
+    def check_refused(self, text, number):
+        self.assertEqual(plain(text), [-number])
+        self.assertEqual(tree(text), [-number])
+        self.assertEqual(same(text, []), [-number])
+        self.assertEqual(same([], text), [-number - 20])
 
     def check_plain(self, text):
         answer = plain(codes(text))
@@ -84,18 +91,18 @@ class AtHazard(unittest.TestCase):
         self.assertEqual(answer[0], 0)
         if len(form) <= 4096:
             self.assertEqual(plain(form), answer, text)
-            self.assertEqual(shape(read_text(form)), shape(read_text(codes(text))), text)
+            self.assertEqual(shape(form), shape(text), text)
+            self.assertEqual(same(form, codes(text)), [1], text)
             self.check_each_pair_is_needed(form)
 
     def check_each_pair_is_needed(self, form):
-        whole = shape(read_text(form))
+        whole = shape(form)
         for opening, closing in pairs(form):
             without = list(form)
             without[opening] = without[closing] = 32
-            try:
-                self.assertNotEqual(shape(read_text(without)), whole, bytes(form))
-            except Refusal:
-                pass
+            if where(without) == [0, 0]:
+                self.assertNotEqual(shape(without), whole, bytes(form))
+                self.assertEqual(same(without, form), [0], bytes(form))
 
     def check_drawn(self, chance, draw):
         """Files drawn one by one, each whole, then spoiled in three ways."""

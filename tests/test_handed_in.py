@@ -2,7 +2,7 @@
 
 import unittest
 
-from buildtext.desk import plain, where
+from buildtext.desk import plain, same, tree, where
 from tests.support import codes
 
 TEXTS = [
@@ -22,28 +22,54 @@ class Untouchable(list):
     append = extend = insert = pop = remove = clear = sort = reverse = refuse_change
 
 
+def same_as_first(text):
+    return same(text, OTHER)
+
+
+def same_as_second(text):
+    return same(OTHER, text)
+
+
+def same_as_itself(text):
+    return same(text, text)
+
+
+OTHER = codes("a ;")
+CALLS = (where, plain, tree, same_as_first, same_as_second, same_as_itself)
+
+
 class HandedIn(unittest.TestCase):
     def test_nothing_is_changed(self):
         for text in TEXTS:
-            for call in (where, plain):
+            for call in CALLS:
                 with self.subTest(call=call.__name__, text=text[:40]):
                     handed = Untouchable(codes(text))
                     answer = call(handed)
                     self.assertEqual(list(handed), codes(text))
                     self.assertEqual(answer, call(codes(text)))
+        self.assertEqual(OTHER, codes("a ;"))
+
+    def test_nothing_of_either_is_changed(self):
+        for a in TEXTS:
+            for b in TEXTS:
+                with self.subTest(a=a[:40], b=b[:40]):
+                    first, second = Untouchable(codes(a)), Untouchable(codes(b))
+                    answer = same(first, second)
+                    self.assertEqual((list(first), list(second)), (codes(a), codes(b)))
+                    self.assertEqual(answer, same(codes(a), codes(b)))
 
     def test_the_answer_is_not_what_was_handed_in(self):
         for text in TEXTS:
             handed = codes(text)
-            answers = (where(handed), plain(handed))
-            for answer in answers:
+            for call in CALLS:
+                answer = call(handed)
                 self.assertIsNot(answer, handed)
                 answer.append(1)
                 answer.clear()
             self.assertEqual(handed, codes(text))
 
     def test_a_second_time(self):
-        for call in (where, plain):
+        for call in CALLS:
             first = [call(codes(text)) for text in TEXTS]
             for answer in [call(codes(text)) for text in TEXTS]:
                 answer.reverse()
@@ -53,11 +79,27 @@ class HandedIn(unittest.TestCase):
 
     def test_lists_of_int(self):
         for text in TEXTS:
-            for call in (where, plain):
+            for call in CALLS:
                 with self.subTest(call=call.__name__, text=text[:40]):
                     answer = call(codes(text))
                     self.assertIs(type(answer), list)
                     self.assertEqual({type(number) for number in answer}, {int})
+
+    def test_same_answers_one_number(self):
+        numbers = set()
+        for text in TEXTS:
+            for call in (same_as_first, same_as_second, same_as_itself):
+                answer = call(codes(text))
+                self.assertEqual(len(answer), 1)
+                numbers.update(answer)
+        self.assertEqual(numbers, {0, 1} | set(range(-7, 0)) | set(range(-27, -20)))
+
+    def test_tree_answers_a_refusal_alone(self):
+        for text in TEXTS:
+            answer = tree(codes(text))
+            number = where(codes(text))[0]
+            self.assertEqual(answer[0], -number)
+            self.assertEqual(len(answer) == 1, number != 0)
 
     def test_where_answers_two_numbers(self):
         for text in TEXTS:

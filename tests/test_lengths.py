@@ -3,8 +3,8 @@
 import sys
 import unittest
 
-from buildtext.desk import plain, where
-from tests.support import codes, plain_of, where_of
+from buildtext.desk import plain, same, tree, where
+from tests.support import codes, grown, leaves_nodes_depth, numbers_of, plain_of, where_of
 
 
 class Long(unittest.TestCase):
@@ -19,6 +19,9 @@ class Long(unittest.TestCase):
             with self.subTest(length):
                 self.assertEqual(where_of("a;" + " " * (length - 2)), [1, 0])
                 self.assertEqual(plain_of("a;" + " " * (length - 2)), -1)
+                self.assertEqual(tree(codes("a;" + " " * (length - 2))), [-1])
+                self.assertEqual(same(codes("a;" + " " * (length - 2)), codes("a;")), [-1])
+                self.assertEqual(same(codes("a;"), codes("a;" + " " * (length - 2))), [-21])
 
     def test_a_faulty_text_is_long_first(self):
         for beginning in ["!", ")", "(" * 13, "return;", "a = 1; a = 2;", "f(n = 1, 2);", '"', "0" * 5000]:
@@ -78,6 +81,11 @@ class LongNotDeep(unittest.TestCase):
         self.assertLessEqual(len(text), 4096)
         self.assertEqual(where_of(text), [0, 0])
         self.assertEqual(plain_of(text), form)
+        self.assertEqual(tree(codes(text))[:3], [0, 10, 0])
+        grown(numbers_of(text))
+        self.assertEqual(same(codes(text), codes(text)), [1])
+        self.assertEqual(same(codes(text), codes("a;")), [0])
+        self.assertEqual(same(codes("a;"), codes(text)), [0])
 
     def test_rows(self):
         self.answered("a" + "+b" * 2046 + ";", "a" + " + b" * 2046 + ";\n")
@@ -125,10 +133,42 @@ class LongNotDeep(unittest.TestCase):
             frame, used = frame.f_back, used + 1
         sys.setrecursionlimit(used + 300)
         try:
-            answers = (where(text), plain(text)[0])
+            answers = (where(text), plain(text)[0], tree(text)[0], same(text, list(text)))
         finally:
             sys.setrecursionlimit(allowed)
-        self.assertEqual(answers, ([0, 0], 0))
+        self.assertEqual(answers, ([0, 0], 0, 0, [1]))
+
+
+class LongAnswers(unittest.TestCase):
+    def test_each_number_of_a_long_row(self):
+        expected = [0, 10, 0, 2048]
+        for number in range(2048):
+            expected += [20, 2 * number, 1, 3, 2 * number, 1, 97]
+        self.assertEqual(tree(codes("a;" * 2048)), expected)
+
+    def test_each_number_of_a_long_sum(self):
+        expected = [0, 10, 0, 1, 20, 0, 1, 38, 0, 2047, 3, 0, 1, 97]
+        for number in range(2046):
+            expected += [61, 2 * number + 1, 1, 3, 2 * number + 2, 1, 98]
+        self.assertEqual(tree(codes("a" + "-b" * 2046 + ";")), expected)
+
+    def test_each_number_of_long_calls(self):
+        expected = [0, 10, 0, 1, 20, 0, 1, 44, 0, 2047, 3, 0, 1, 97]
+        for number in range(2046):
+            expected += [65, 2 * number + 1, 0]
+        self.assertEqual(tree(codes("a" + "()" * 2046 + ";")), expected)
+
+    def test_long_and_as_deep_as_can_be(self):
+        level = "a or b and not c == d + e * -f(n = "
+        text = level * 12 + "x" + "+x" * 1500 + ")" * 12 + ";"
+        # At each level nodes 30, 31, 32, 33, 38, 60, 40, 62, 43, 44, 65 and 45, one within the other.
+        self.assertEqual(leaves_nodes_depth(text), (12 * 7 + 1501, 2 + 12 * 12 + 1501, 2 + 12 * 12 + 3))
+        self.assertEqual(same(codes(text), codes(text.replace("+", " + ", 200))), [1])
+        self.assertEqual(same(codes(text), codes(text[::-1].replace("x", "y", 1)[::-1])), [0])
+        blocks = "if x {" * 12 + "a;" * 2006 + "}" * 12
+        self.assertEqual(plain_of(blocks), -8)
+        self.assertEqual(leaves_nodes_depth(blocks), (12 + 2006, 1 + 24 + 2006, 1 + 24 + 2))
+        self.assertEqual(same(codes(blocks), codes(blocks)), [1])
 
 
 if __name__ == "__main__":
