@@ -1,1 +1,1 @@
-"""Build files as texts: read with faults placed, told as trees, compared, and printed in one form."""
+"""Build files as texts: read with faults placed, told as trees, compared, printed in one form; their names."""

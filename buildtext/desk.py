@@ -1,9 +1,11 @@
 """The calls: each takes texts as lists of bytes and gives back a list of whole numbers."""
 
 from buildtext.comparing import are_same
+from buildtext.naming import told_names
 from buildtext.numbering import numbers_of
 from buildtext.reading import read_text
 from buildtext.refusals import Refusal, RoomFault
+from buildtext.scoping import told_free_names
 from buildtext.statement_form import plain_form
 
 MOST_PRINTED = 8192
@@ -21,8 +23,13 @@ def where(text):
 
 
 def plain(text):
+    return answered(text, form_with_room)
+
+
+# 0 and what is told of the text's tree, or the refusal alone.
+def answered(text, told_of):
     try:
-        return [0] + form_with_room(read_text(text))
+        return [0] + told_of(read_text(text))
     except Refusal as fault:
         return [-fault.number]
 
@@ -35,10 +42,7 @@ def form_with_room(file_tree):
 
 
 def tree(text):
-    try:
-        return [0] + numbers_of(read_text(text))
-    except Refusal as fault:
-        return [-fault.number]
+    return answered(text, numbers_of)
 
 
 def same(a, b):
@@ -53,3 +57,11 @@ def same(a, b):
     if are_same(first, second):
         return [1]
     return [0]
+
+
+def names(text):
+    return answered(text, told_names)
+
+
+def free(text):
+    return answered(text, told_free_names)

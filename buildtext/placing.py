@@ -1,5 +1,6 @@
 """Faults of place and number, in a tree that the grammar allows."""
 
+from buildtext.naming import names_at_file_level
 from buildtext.refusals import BehindFault, PlaceFault, TwiceFault
 from buildtext.trees import (
     BLOCK, CALL, DEF, FILE, GIVING, LOAD, NAMED_ARG, PARAM, PARAMS, RECORD, RETURN,
@@ -60,16 +61,6 @@ def labels_of(tree):
     if tree.kind == CALL:
         return [arg.parts[0] for arg in tree.parts if arg.kind == NAMED_ARG]
     return []
-
-
-def names_at_file_level(file_tree):
-    names = []
-    for stmt in file_tree.parts:
-        if stmt.kind == LOAD:
-            names.extend(stmt.parts[1:])
-        elif stmt.kind == DEF or stmt.kind == GIVING:
-            names.append(stmt.parts[0])
-    return names
 
 
 def twice_faults(labels):

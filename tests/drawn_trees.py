@@ -14,11 +14,16 @@ IN_ANY_ORDER = (10, 13, 15, 30, 31, 48, 50, 65)
 
 
 class Drawing:
-    def __init__(self, chance):
+    """Names at file level are like no others; where most is told, up to so many of them are like others."""
+    def __init__(self, chance, most=0):
         self.chance = chance
         self.given = 0
+        self.most_stmts = 4 + most
+        self.left = chance.sample(NAMES, most)
 
     def new_name(self):
+        if self.left and self.chance.random() < 0.8:
+            return (3, self.left.pop().encode())
         self.given += 1
         return (3, b"g%d" % self.given)
 
@@ -30,7 +35,7 @@ class Drawing:
         return [(7, name.encode()) for name in names]
 
     def file(self):
-        return (10, tuple(self.stmt(2, False, False) for time in range(self.chance.randrange(5))))
+        return (10, tuple(self.stmt(2, False, False) for time in range(self.chance.randrange(self.most_stmts + 1))))
 
     def stmt(self, depth, in_block, in_def):
         kinds = [20, 20]

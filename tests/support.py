@@ -1,6 +1,6 @@
 """What the tests share: texts as lists of bytes, the calls on ASCII texts, and trees made of their numbers."""
 
-from buildtext.desk import plain, same, tree, where
+from buildtext.desk import free, names, plain, same, tree, where
 
 BRACKETS = {"(": ")", "[": "]", "{": "}"}
 
@@ -17,6 +17,11 @@ x = [a or b, a and b, not a, a == b, a != b, a < b, a <= b, a in b, a + b - c, a
 {n: -a, m: f(a, n = b)[c].d};
 [y for y in x if y];
 """
+
+# Different names of one byte, then of two; none is a kept word.
+LETTERS = "abcdefghijklmnopqrstuvwxyzABCDEFGHIJKLMNOPQRSTUVWXYZ_"
+PAIRS = [first + second for first in LETTERS for second in "abcdeghjklmpqstuvwxyz0123456789"]
+SHORT_NAMES = list(LETTERS) + PAIRS
 
 
 def codes(text):
@@ -48,6 +53,36 @@ def same_of(a, b):
     answer = same(codes(a), codes(b))
     assert len(answer) == 1, answer
     return answer[0]
+
+
+def names_of(text):
+    """What names tells: the number, the position and the name of each, the name as a text."""
+    answer = names(codes(text))
+    assert answer[0] == 0, answer
+    found, at = [], 1
+    while at < len(answer):
+        giver, position = answer[at:at + 2]
+        name, at = counted_at(answer, at + 2)
+        found.append((giver, position, name))
+    return found
+
+
+def free_of(text):
+    """What free tells: the names as texts."""
+    answer = free(codes(text))
+    assert answer[0] == 0, answer
+    found, at = [], 1
+    while at < len(answer):
+        name, at = counted_at(answer, at)
+        found.append(name)
+    return found
+
+
+def counted_at(numbers, at):
+    """The text whose length and bytes stand there, and where they end."""
+    after = at + 1 + numbers[at]
+    assert after <= len(numbers) and after > at + 1, numbers
+    return bytes(numbers[at + 1:after]).decode("ascii"), after
 
 
 def grown(numbers):

@@ -1,9 +1,9 @@
-"""The examples that the document gives for where, plain and tree."""
+"""The examples that the document gives."""
 
 import unittest
 
 from buildtext.desk import tree
-from tests.support import codes, plain_of, where_of
+from tests.support import codes, free_of, plain_of, where_of
 
 
 class Examples(unittest.TestCase):
@@ -34,9 +34,11 @@ class Examples(unittest.TestCase):
             [0, 10, 0, 1, 20, 0, 1, 43, 0, 1, 44, 1, 2, 3, 1, 1, 120, 67, 2, 1, 7, 3, 1, 121],
         )
 
+    def test_free(self):
+        self.assertEqual(free_of("def f(x) { for y in g(x) { z = y; } return z; } h(f, z);"), ["g", "h", "z"])
+
     def test_texts_of_other_examples_can_be_read(self):
         for text in [
-            "def f(x) { for y in g(x) { z = y; } return z; } h(f, z);",
             "g = 1; def f(h) { return h; }",
             "def f(x) { return x; } y = [f(f) for f in f];",
         ]:

@@ -2,11 +2,12 @@
 
 import unittest
 
-from buildtext.desk import plain, same, tree, where
+from buildtext.desk import free, names, plain, same, tree, where
 from tests.support import codes
 
 TEXTS = [
     "", "a;", "x = 1", "!", "(" * 13, "return;", "a = 1; a = 2;", "f(a = 1, 2);", " " * 4097, " " * 10000,
+    "z; a = 1; for b in a { b; c; } [d for d in e]; z; c;",
     'load "t\\n\\x00" a, b; def f(x, y = 1) { if x { return [z for z in y if -z]; } else { q = {n: a % b}; } }',
     "if x {" * 12 + "a;" * 2006 + "}" * 12,
 ]
@@ -35,7 +36,7 @@ def same_as_itself(text):
 
 
 OTHER = codes("a ;")
-CALLS = (where, plain, tree, same_as_first, same_as_second, same_as_itself)
+CALLS = (where, plain, tree, names, free, same_as_first, same_as_second, same_as_itself)
 
 
 class HandedIn(unittest.TestCase):
@@ -94,12 +95,15 @@ class HandedIn(unittest.TestCase):
                 numbers.update(answer)
         self.assertEqual(numbers, {0, 1} | set(range(-7, 0)) | set(range(-27, -20)))
 
-    def test_tree_answers_a_refusal_alone(self):
-        for text in TEXTS:
-            answer = tree(codes(text))
-            number = where(codes(text))[0]
-            self.assertEqual(answer[0], -number)
-            self.assertEqual(len(answer) == 1, number != 0)
+    def test_a_refusal_stands_alone(self):
+        for call in (tree, names, free):
+            for text in TEXTS:
+                with self.subTest(call=call.__name__, text=text[:40]):
+                    answer = call(codes(text))
+                    number = where(codes(text))[0]
+                    self.assertEqual(answer[0], -number)
+                    if number != 0:
+                        self.assertEqual(len(answer), 1)
 
     def test_where_answers_two_numbers(self):
         for text in TEXTS:

@@ -3,7 +3,7 @@
 import sys
 import unittest
 
-from buildtext.desk import plain, same, tree, where
+from buildtext.desk import free, names, plain, same, tree, where
 from tests.support import codes, grown, leaves_nodes_depth, numbers_of, plain_of, where_of
 
 
@@ -19,7 +19,8 @@ class Long(unittest.TestCase):
             with self.subTest(length):
                 self.assertEqual(where_of("a;" + " " * (length - 2)), [1, 0])
                 self.assertEqual(plain_of("a;" + " " * (length - 2)), -1)
-                self.assertEqual(tree(codes("a;" + " " * (length - 2))), [-1])
+                for call in (tree, names, free):
+                    self.assertEqual(call(codes("a;" + " " * (length - 2))), [-1])
                 self.assertEqual(same(codes("a;" + " " * (length - 2)), codes("a;")), [-1])
                 self.assertEqual(same(codes("a;"), codes("a;" + " " * (length - 2))), [-21])
 
@@ -86,6 +87,7 @@ class LongNotDeep(unittest.TestCase):
         self.assertEqual(same(codes(text), codes(text)), [1])
         self.assertEqual(same(codes(text), codes("a;")), [0])
         self.assertEqual(same(codes("a;"), codes(text)), [0])
+        self.assertEqual((names(codes(text))[0], free(codes(text))[0]), (0, 0))
 
     def test_rows(self):
         self.answered("a" + "+b" * 2046 + ";", "a" + " + b" * 2046 + ";\n")
@@ -133,10 +135,10 @@ class LongNotDeep(unittest.TestCase):
             frame, used = frame.f_back, used + 1
         sys.setrecursionlimit(used + 300)
         try:
-            answers = (where(text), plain(text)[0], tree(text)[0], same(text, list(text)))
+            answers = (where(text), plain(text)[0], tree(text)[0], same(text, list(text)), names(text)[0], free(text)[0])
         finally:
             sys.setrecursionlimit(allowed)
-        self.assertEqual(answers, ([0, 0], 0, 0, [1]))
+        self.assertEqual(answers, ([0, 0], 0, 0, [1], 0, 0))
 
 
 class LongAnswers(unittest.TestCase):
