@@ -1,1 +1,1 @@
-"""Build files as texts: read with faults placed, told as trees, compared, printed in one form; their names."""
+"""Build files as texts: read with faults placed, told as trees, printed in one form, their names exchanged."""

@@ -82,9 +82,7 @@ def is_digit(byte):
 
 
 def word_at(text, place):
-    after = place
-    while after < len(text) and (is_letter(text[after]) or is_digit(text[after])):
-        after += 1
+    after = word_end(text, place)
     if after - place > MOST_IN_WORD:
         raise TokenFault(place)
     data = text[place:after]
@@ -94,11 +92,25 @@ def word_at(text, place):
     return Token(kept, place, after, [])
 
 
+def word_end(text, place):
+    after = place
+    while after < len(text) and (is_letter(text[after]) or is_digit(text[after])):
+        after += 1
+    return after
+
+
 def kept_word(data):
     for word in KEPT_WORDS:
         if len(word) == len(data) and codes_of(word) == data:
             return word
     return None
+
+
+# Whether all of a text is one name.
+def is_name(text):
+    if len(text) == 0 or len(text) > MOST_IN_WORD:
+        return False
+    return is_letter(text[0]) and word_end(text, 0) == len(text) and kept_word(text) is None
 
 
 def number_at(text, place):

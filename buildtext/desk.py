@@ -1,10 +1,12 @@
 """The calls: each takes texts as lists of bytes and gives back a list of whole numbers."""
 
 from buildtext.comparing import are_same
+from buildtext.measuring import measures_of
 from buildtext.naming import told_names
 from buildtext.numbering import numbers_of
 from buildtext.reading import read_text
 from buildtext.refusals import Refusal, RoomFault
+from buildtext.renaming import check_names, exchange_name
 from buildtext.scoping import told_free_names
 from buildtext.statement_form import plain_form
 
@@ -65,3 +67,20 @@ def names(text):
 
 def free(text):
     return answered(text, told_free_names)
+
+
+def rename(text, old, new):
+    try:
+        check_names(old, new)
+        file_tree = read_text(text)
+        exchange_name(file_tree, old, new)
+        return [0] + form_with_room(file_tree)
+    except Refusal as fault:
+        return [-fault.number]
+
+
+def size(text):
+    try:
+        return measures_of(read_text(text))
+    except Refusal as fault:
+        return [-fault.number]

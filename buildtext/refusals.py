@@ -45,3 +45,18 @@ class BehindFault(Refusal):
 class RoomFault(Refusal):
     def __init__(self):
         Refusal.__init__(self, 8, 0)
+
+
+class NameFault(Refusal):
+    def __init__(self):
+        Refusal.__init__(self, 9, 0)
+
+
+class AbsentFault(Refusal):
+    def __init__(self):
+        Refusal.__init__(self, 10, 0)
+
+
+class TakenFault(Refusal):
+    def __init__(self):
+        Refusal.__init__(self, 11, 0)

@@ -87,3 +87,20 @@ def free_answer(tree):
             told.add(leaf[2])
             numbers += [len(leaf[2])] + list(leaf[2])
     return numbers
+
+
+def rename_refusal(tree, old, new):
+    """ABSENT or TAKEN, or 0; old and new as tuples of bytes."""
+    leaves = meanings(tree)
+    if (old, "given") not in [(leaf[2], meaning) for leaf, meaning in leaves]:
+        return -10
+    return -11 if new in [leaf[2] for leaf, meaning in leaves] else 0
+
+
+def exchanged(text, tree, old, new):
+    """The text itself, whatever its form is, with new in the places of the leaves that rename exchanges."""
+    result = list(text)
+    for leaf, meaning in reversed(meanings(tree)):
+        if leaf[2] == old and meaning in ("given", "file"):
+            result[leaf[1]:leaf[1] + len(old)] = new
+    return result

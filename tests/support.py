@@ -1,6 +1,6 @@
 """What the tests share: texts as lists of bytes, the calls on ASCII texts, and trees made of their numbers."""
 
-from buildtext.desk import free, names, plain, same, tree, where
+from buildtext.desk import free, names, plain, rename, same, size, tree, where
 
 BRACKETS = {"(": ")", "[": "]", "{": "}"}
 
@@ -34,7 +34,15 @@ def where_of(text):
 
 def plain_of(text):
     """The plain form as a text; a refusal as its number."""
-    answer = plain(codes(text))
+    return form_or_refusal(plain(codes(text)))
+
+
+def renamed(text, old, new):
+    """The form that rename answers as a text; a refusal as its number."""
+    return form_or_refusal(rename(codes(text), codes(old), codes(new)))
+
+
+def form_or_refusal(answer):
     if answer[0] != 0:
         assert len(answer) == 1, answer
         return answer[0]
@@ -117,7 +125,15 @@ def without_places(entry):
     return (kind, tuple(without_places(part) for part in held))
 
 
+def size_of(text):
+    """What size answers: leaves, nodes and depth."""
+    answer = size(codes(text))
+    assert len(answer) == 3, answer
+    return tuple(answer)
+
+
 def leaves_nodes_depth(text):
+    """The same counted from what tree answers."""
     return measured(grown(numbers_of(text)))
 
 

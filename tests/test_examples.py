@@ -3,7 +3,7 @@
 import unittest
 
 from buildtext.desk import tree
-from tests.support import codes, free_of, plain_of, where_of
+from tests.support import codes, free_of, plain_of, renamed, where_of
 
 
 class Examples(unittest.TestCase):
@@ -37,13 +37,10 @@ class Examples(unittest.TestCase):
     def test_free(self):
         self.assertEqual(free_of("def f(x) { for y in g(x) { z = y; } return z; } h(f, z);"), ["g", "h", "z"])
 
-    def test_texts_of_other_examples_can_be_read(self):
-        for text in [
-            "g = 1; def f(h) { return h; }",
-            "def f(x) { return x; } y = [f(f) for f in f];",
-        ]:
-            with self.subTest(text):
-                self.assertEqual(where_of(text), [0, 0])
+    def test_rename(self):
+        self.assertEqual(renamed("g = 1; def f(h) { return h; }", "g", "h"), -11)
+        form = renamed("def f(x) { return x; } y = [f(f) for f in f];", "f", "k")
+        self.assertEqual(form, "def k(x) {\n  return x;\n}\ny = [f(f) for f in k];\n")
 
 
 if __name__ == "__main__":

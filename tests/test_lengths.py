@@ -3,7 +3,7 @@
 import sys
 import unittest
 
-from buildtext.desk import free, names, plain, same, tree, where
+from buildtext.desk import free, names, plain, rename, same, size, tree, where
 from tests.support import codes, grown, leaves_nodes_depth, numbers_of, plain_of, where_of
 
 
@@ -19,8 +19,9 @@ class Long(unittest.TestCase):
             with self.subTest(length):
                 self.assertEqual(where_of("a;" + " " * (length - 2)), [1, 0])
                 self.assertEqual(plain_of("a;" + " " * (length - 2)), -1)
-                for call in (tree, names, free):
+                for call in (tree, names, free, size):
                     self.assertEqual(call(codes("a;" + " " * (length - 2))), [-1])
+                self.assertEqual(rename(codes("a=1;".ljust(length)), codes("a"), codes("b")), [-1])
                 self.assertEqual(same(codes("a;" + " " * (length - 2)), codes("a;")), [-1])
                 self.assertEqual(same(codes("a;"), codes("a;" + " " * (length - 2))), [-21])
 
@@ -88,6 +89,8 @@ class LongNotDeep(unittest.TestCase):
         self.assertEqual(same(codes(text), codes("a;")), [0])
         self.assertEqual(same(codes("a;"), codes(text)), [0])
         self.assertEqual((names(codes(text))[0], free(codes(text))[0]), (0, 0))
+        self.assertEqual(tuple(size(codes(text))), leaves_nodes_depth(text))
+        self.assertIn(rename(codes(text), codes("f"), codes("q"))[0], (0, -10))
 
     def test_rows(self):
         self.answered("a" + "+b" * 2046 + ";", "a" + " + b" * 2046 + ";\n")
@@ -128,17 +131,18 @@ class LongNotDeep(unittest.TestCase):
 
     def test_calls_within_one_another_are_few(self):
         level = "a or b and not c == d + e * -f(n = "
-        text = codes(level * 12 + "x" + ")" * 12 + ";")
+        text = codes("a = " + level * 12 + "x" + ")" * 12 + ";")
         allowed = sys.getrecursionlimit()
         frame, used = sys._getframe(), 0
         while frame is not None:
             frame, used = frame.f_back, used + 1
         sys.setrecursionlimit(used + 300)
         try:
-            answers = (where(text), plain(text)[0], tree(text)[0], same(text, list(text)), names(text)[0], free(text)[0])
+            answers = (where(text), plain(text)[0], tree(text)[0], same(text, list(text)))
+            answers += (names(text)[0], free(text)[0], rename(text, codes("a"), codes("k"))[0], len(size(text)))
         finally:
             sys.setrecursionlimit(allowed)
-        self.assertEqual(answers, ([0, 0], 0, 0, [1], 0, 0))
+        self.assertEqual(answers, ([0, 0], 0, 0, [1], 0, 0, 0, 3))
 
 
 class LongAnswers(unittest.TestCase):

@@ -1,4 +1,5 @@
-"""names and free on trees drawn at hazard, in which names at file level, local names and used ones are often alike.
+"""names, free and rename on trees drawn at hazard, in which names at file level, local names and used ones are often
+alike; size on the same trees.
 
 The draws are the same each time: the source of chance is given its beginning.
 """
@@ -6,10 +7,10 @@ The draws are the same each time: the source of chance is given its beginning.
 import random
 import unittest
 
-from buildtext.desk import free, names, plain
-from tests.drawn_trees import Drawing
-from tests.meanings import free_answer, meanings, names_answer
-from tests.support import codes, grown
+from buildtext.desk import free, names, plain, rename, size
+from tests.drawn_trees import NAMES, Drawing
+from tests.meanings import exchanged, free_answer, meanings, names_answer, rename_refusal
+from tests.support import codes, grown, measured
 from tests.written_trees import Writing
 
 FILES = 500
@@ -49,6 +50,43 @@ class NamesAtHazard(unittest.TestCase):
                 count += 1
                 self.assertEqual(free(form[1:]), free(text), bytes(text))
         self.assertGreater(count, FILES // 2)
+
+    def test_rename(self):
+        chance = random.Random(24)
+        seen = {0: 0, -8: 0, -10: 0, -11: 0}
+        for text, tree in files(25):
+            given = [leaf[2] for leaf, meaning in meanings(tree) if meaning == "given"]
+            for time in range(4):
+                old = chance.choice(given + [tuple(codes(chance.choice(NAMES)))])
+                new = tuple(codes(chance.choice(NAMES + ["k", "k2", "K" * 32, "g1"] * 2)))
+                answer = rename(text, list(old), list(new))
+                refusal = rename_refusal(tree, old, new)
+                seen[answer[0]] += 1
+                with self.subTest(text=bytes(text), old=bytes(old), new=bytes(new)):
+                    if refusal:
+                        self.assertEqual(answer, [refusal])
+                        continue
+                    other = exchanged(text, tree, old, new)
+                    if len(other) <= 4096:
+                        self.assertEqual(answer, plain(other))
+                        self.assertEqual(free(other), free(text))
+        self.assertGreater(min(seen[0], seen[-10], seen[-11]), FILES // 4, seen)
+
+    def test_rename_there_and_back(self):
+        count = 0
+        for text, tree in files(26):
+            local_names = [leaf[2] for leaf, meaning in meanings(tree) if meaning == "local"]
+            for old in [leaf[2] for leaf, meaning in meanings(tree) if meaning == "given"]:
+                form = rename(text, list(old), codes("fresh"))
+                if form[0] == 0 and len(form) <= 4097:
+                    count += 1
+                    asked = [-11] if old in local_names else plain(text)
+                    self.assertEqual(rename(form[1:], codes("fresh"), list(old)), asked, bytes(text))
+        self.assertGreater(count, FILES // 2)
+
+    def test_size(self):
+        for text, tree in files(27):
+            self.assertEqual(size(text), list(measured(tree)), bytes(text))
 
 
 if __name__ == "__main__":

@@ -1,9 +1,9 @@
-"""tree: kinds, places, bytes and parts, number by number; its refusals; a tree's leaves, nodes and depth."""
+"""tree: kinds, places, bytes and parts, number by number; its refusals."""
 
 import unittest
 
 from buildtext.desk import tree
-from tests.support import EACH_KIND, REFUSED, codes, grown, kinds_in, leaves_nodes_depth, numbers_of, shape
+from tests.support import EACH_KIND, REFUSED, codes, grown, kinds_in, numbers_of, shape
 
 
 def name(place, text, kind=3):
@@ -246,25 +246,6 @@ class Refusals(unittest.TestCase):
         self.assertEqual(expr("(" * 12 + "a" + ")" * 12), name(12, "a"))
         self.assertEqual(
             expr("[" * 12 + "]" * 12), [number for place in range(11) for number in (48, place, 1)] + [48, 11, 0])
-
-
-class Measures(unittest.TestCase):
-    def test_leaves_nodes_and_depth(self):
-        for text, measures in [
-            ("", (0, 1, 1)),
-            ("a;", (1, 2, 3)),
-            ("((a));", (1, 2, 3)),
-            ("-x.y;", (2, 5, 6)),
-            ("[];", (0, 3, 3)),
-            ("def f() {}", (1, 4, 3)),
-            ("a + b + c;", (3, 5, 5)),
-            ("(a + b) + c;", (3, 6, 6)),
-            ("f(n = a);", (3, 5, 6)),
-            ("if a {} else { b; }", (2, 5, 5)),
-            ("{n: a};", (2, 4, 5)),
-        ]:
-            with self.subTest(text):
-                self.assertEqual(leaves_nodes_depth(text), measures)
 
 
 if __name__ == "__main__":
