@@ -28,6 +28,15 @@ def codes(text):
     return list(text.encode("latin-1"))
 
 
+def check_refusals_of_reading(case, call):
+    """Whether a call refuses as reading refuses, also where something that can be read stands ahead of the fault."""
+    for number, text in REFUSED.items():
+        with case.subTest(number):
+            case.assertEqual(call(codes(text)), [-number])
+            case.assertEqual(call(codes("q = p; " + text)), [-number])
+            case.assertEqual(call(codes("q = p; " + text + " " * 4096)), [-1])
+
+
 def where_of(text):
     return where(codes(text))
 

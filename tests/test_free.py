@@ -3,7 +3,7 @@
 import unittest
 
 from buildtext.desk import free
-from tests.support import EACH_KIND, REFUSED, SHORT_NAMES, codes, free_of
+from tests.support import EACH_KIND, SHORT_NAMES, check_refusals_of_reading, codes, free_of
 
 
 class FreeTest(unittest.TestCase):
@@ -246,12 +246,7 @@ class OtherNames(FreeTest):
 
 class Refused(unittest.TestCase):
     def test_as_reading_refuses(self):
-        for number, text in REFUSED.items():
-            with self.subTest(number):
-                self.assertEqual(free(codes(text)), [-number])
-                if number > 1:
-                    self.assertEqual(free(codes("q; " + text)), [-number])
-                    self.assertEqual(free(codes("q; " + text + " " * 4096)), [-1])
+        check_refusals_of_reading(self, free)
 
     def test_wrong_texts(self):
         for number, text in [

@@ -3,7 +3,7 @@
 import unittest
 
 from buildtext.desk import names
-from tests.support import EACH_KIND, PAIRS, REFUSED, codes, names_of
+from tests.support import EACH_KIND, PAIRS, check_refusals_of_reading, codes, names_of
 
 
 class Given(unittest.TestCase):
@@ -100,12 +100,7 @@ class NotAtFileLevel(unittest.TestCase):
 
 class Refused(unittest.TestCase):
     def test_as_reading_refuses(self):
-        for number, text in REFUSED.items():
-            with self.subTest(number):
-                self.assertEqual(names(codes(text)), [-number])
-                if number > 1:
-                    self.assertEqual(names(codes("q = 1; " + text)), [-number])
-                    self.assertEqual(names(codes("q = 1; " + text + " " * 4096)), [-1])
+        check_refusals_of_reading(self, names)
 
     def test_names_given_twice(self):
         for text in ['load "t" a, a;', 'load "t" a; a = 1;', "def a() {} a = 1;", "a = 1; def a() {}"]:

@@ -3,7 +3,7 @@
 import unittest
 
 from buildtext.desk import size
-from tests.support import EACH_KIND, REFUSED, codes, leaves_nodes_depth, size_of
+from tests.support import EACH_KIND, check_refusals_of_reading, codes, leaves_nodes_depth, size_of
 
 
 class SizeTest(unittest.TestCase):
@@ -116,12 +116,7 @@ class Deep(SizeTest):
 
 class Refused(unittest.TestCase):
     def test_as_reading_refuses(self):
-        for number, text in REFUSED.items():
-            with self.subTest(number):
-                self.assertEqual(size(codes(text)), [-number])
-                if number > 1:
-                    self.assertEqual(size(codes("q; " + text)), [-number])
-                    self.assertEqual(size(codes("q; " + text + " " * 4096)), [-1])
+        check_refusals_of_reading(self, size)
 
     def test_wrong_texts(self):
         for number, text in [(2, "?"), (2, "01;"), (2, '"'), (3, "a"), (3, "()"), (3, "a;;"), (4, "[" * 13 + "]" * 13 + ";"), (5, "if a { b = 1; }"), (6, "{a: 1, a: 2};")]:
